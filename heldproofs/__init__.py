@@ -1,0 +1,1 @@
+"""Derivations over things that are held, and taking the cuts out of them."""

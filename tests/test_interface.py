@@ -1,0 +1,48 @@
+"""The interface: each name is defined in its file, with its arguments and its methods."""
+
+import ast
+import importlib
+import inspect
+import unittest
+
+FUNCTIONS = {
+    "kinds": ["is_kind(value)", "nested(outer, inner)", "pooled(first, second)", "covers(room, kind)"],
+    "sentences": ["word(name)", "menu(left, right)", "trade(price, goods, *, kind='once')",
+                  "size(sentence)", "words_in(sentence)", "legs(sentence)"],
+    "sentencetext": ["format_sentence(sentence)", "parse_sentence(text)"],
+    "claims": ["make_claim(holds, goal)", "hold_of(claim, name)", "without_hold(claim, name)",
+               "with_hold(claim, name, kind, sentence)", "bare_claim(claim)"],
+}
+
+CLASSES = {}
+
+
+class InterfaceTest(unittest.TestCase):
+    def test_functions_with_their_arguments(self):
+        for file, lines in FUNCTIONS.items():
+            module = importlib.import_module("heldproofs." + file)
+            for line in lines:
+                name = line.partition("(")[0]
+                self.assertEqual(name + str(inspect.signature(getattr(module, name))), line)
+
+    def test_functions_are_defined_in_their_files(self):
+        for file, lines in FUNCTIONS.items():
+            module = importlib.import_module("heldproofs." + file)
+            defined = [node.name for node in ast.parse(inspect.getsource(module)).body
+                       if isinstance(node, ast.FunctionDef)]
+            for line in lines:
+                self.assertIn(line.partition("(")[0], defined)
+
+    def test_classes_define_their_methods_themselves(self):
+        for file, classes in CLASSES.items():
+            module = importlib.import_module("heldproofs." + file)
+            for name, methods in classes.items():
+                made = getattr(module, name)
+                self.assertEqual(made.__module__, "heldproofs." + file)
+                for method, arguments in methods.items():
+                    self.assertIn(method, vars(made))
+                    self.assertEqual(str(inspect.signature(vars(made)[method])), arguments)
+
+
+if __name__ == "__main__":
+    unittest.main()

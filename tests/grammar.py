@@ -1,4 +1,4 @@
-"""An independent reader of sentences and claims, for whole texts only, and what they begin.
+"""An independent reader of sentences, claims and derivations, for whole texts, and what they begin.
 
 It is slow and plain: it says whether a text is right, and whether it is the
 beginning of a right one, by trying endings.
@@ -117,3 +117,49 @@ def begins_claim(text):
     endings = [ending + ")" * count for ending in ENDINGS for count in range(text.count("(") + 1)]
     return any(is_claim(text + ending + goal)
                for ending in endings + CLAIM_ENDINGS for goal in ("", "|-a", "-a"))
+
+
+# What follows the name of each row: references, sides, kinds, names, indexes, sentences and derivations.
+ROWS = {"own": "R", "take": "D", "offer": "DD", "pick": "RSD", "pay": "RKDD", "make": "NID",
+        "open": "RNID", "cut": "KTDD", "cite": "N"}
+NAME_TOKEN, NUMBER_TOKEN = "[a-z][a-z0-9]{0,11}", "(0|[1-9][0-9]{0,8})"
+TOKENS = {"R": NAME_TOKEN + "|#" + NUMBER_TOKEN, "S": "left|right", "N": NAME_TOKEN, "I": NUMBER_TOKEN,
+          "K": r"once|\[[1-9][0-9]{0,8}/" + NUMBER_TOKEN + r"\]"}
+
+
+def enclosed_fault(text, start):
+    """The fault of a sentence in parentheses, or None; and the index behind the parentheses."""
+    if not text.startswith("(", start):
+        return start, None
+    closed = [end for end in range(start + 1, len(text) + 1)
+              if text[start:end].count("(") == text[start:end].count(")")]
+    if not closed:
+        return len(text), None
+    inner = text[start + 1:closed[0] - 1]
+    if not is_sentence(inner):
+        within = [index for index in range(len(inner)) if not begins_sentence(inner[:index + 1])]
+        return start + 1 + (within + [len(inner)])[0], None
+    if text[closed[0]:closed[0] + 1] not in ("", " "):
+        return closed[0], None
+    return None, closed[0]
+
+
+def derivation_fault(text):
+    """The index that point 24 asks for, or None for the text of a derivation."""
+    awaited, at = "D", 0
+    while awaited:
+        first, awaited, at = awaited[0], awaited[1:], blank(text, at)
+        run = text[at:].partition(" ")[0]
+        if first == "T":
+            fault, stop = enclosed_fault(text, at)
+            if fault is not None:
+                return fault
+        elif first == "D" and run in ROWS:
+            awaited, stop = ROWS[run] + awaited, at + len(run)
+        elif first != "D" and re.fullmatch(TOKENS[first], run):
+            stop = at + len(run)
+        else:
+            return at
+        at = stop
+    at = blank(text, at)
+    return None if at == len(text) else at

@@ -85,3 +85,48 @@ def least_fault(is_beginning, text):
         if not is_beginning(text[:index + 1]):
             return index
     return len(text)
+
+
+def random_ref(random, level):
+    """A reference that is in scope at a level."""
+    return random.choice(["x", "y", "own"] + list(range(level)) * 2)
+
+
+def random_derivation(random, depth, level=0):
+    """A derivation at a level, nested at most so deep, whose references are in scope."""
+    def above(more):
+        return random_derivation(random, depth - 1, level + more)
+
+    names = ["own", "cite"] if depth == 0 else [
+        "own", "take", "offer", "pick", "pay", "make", "open", "cut", "pay", "cut", "offer"]
+    name = random.choice(names)
+    ref = random_ref(random, level)
+    if name == "own":
+        return ("own", ref)
+    if name == "cite":
+        return ("cite", random.choice(["e", "own", "once"]))
+    if name == "take":
+        return ("take", above(1))
+    if name == "offer":
+        return ("offer", above(0), above(0))
+    if name == "pick":
+        return ("pick", ref, random.choice(["left", "right"]), above(1))
+    if name == "pay":
+        return ("pay", ref, random_kind(random), above(0), above(1))
+    if name == "make":
+        return ("make", "w", random.choice([0, 1, 999999999]), above(0))
+    if name == "open":
+        return ("open", ref, "w", random.choice([0, 2]), above(1))
+    return ("cut", random_kind(random), random_sentence(random, 2), above(0), above(1))
+
+
+def tower(depth):
+    """Derivations of all shapes that nest so many rows deep, with the depth of their tops."""
+    take = pay = source = make = offer = ("own", "x")
+    for _ in range(depth - 1):
+        take = ("take", take)
+        pay = ("pay", "f", (2, 1), ("own", "s"), pay)
+        source = ("cut", (1, 0), ("word", "a"), source, ("own", "z"))
+        make = ("make", "w", 0, make)
+        offer = ("offer", ("own", "y"), offer)
+    return [take, pay, source, make, offer]

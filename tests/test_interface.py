@@ -12,9 +12,20 @@ FUNCTIONS = {
     "sentencetext": ["format_sentence(sentence)", "parse_sentence(text)"],
     "claims": ["make_claim(holds, goal)", "hold_of(claim, name)", "without_hold(claim, name)",
                "with_hold(claim, name, kind, sentence)", "bare_claim(claim)"],
+    "claimtext": ["format_claim(claim)", "parse_claim(text)"],
+    "rows": ["premises(derivation)", "part(derivation, path)", "with_part(derivation, path, other)",
+             "level_at(derivation, path)", "row_count(derivation)", "walk(derivation)", "cut_paths(derivation)",
+             "is_bare(derivation)"],
+    "rowtext": ["format_derivation(derivation)", "parse_derivation(text)"],
+    "moving": ["moved(derivation, old, new, renamed)", "free_refs(derivation, level)"],
+    "counts": ["counts(derivation, level=0)"],
 }
 
-CLASSES = {}
+CLASSES = {
+    "counts": {"Count": {"__init__": "(self, least, most, days)", "__add__": "(self, other)",
+                         "__or__": "(self, other)", "boxed": "(self, kind)", "fits": "(self, kind)",
+                         "triple": "(self)"}},
+}
 
 
 class InterfaceTest(unittest.TestCase):

@@ -82,29 +82,13 @@ def read_field(text, start, field):
 
 def read_enclosed(text, start):
     """Read a sentence with the parentheses around it; the sentence and the index behind them."""
-    inside = read_sign(text, start, "(")
-    close = closing_index(text, inside)
-    # What stands behind the closing parenthesis is no part of the sentence, right or wrong.
-    sentence, at = read_sentence(text[:close], inside)
-    if at < close:
-        raise TextError(at)
-    behind = close + 1
+    # Read up to where the sentence ends, not up to a parenthesis that was looked for
+    # first: the first fault from the left counts, whether that parenthesis is there or not.
+    sentence, at = read_sentence(text, read_sign(text, start, "("))
+    behind = read_sign(text, at, ")")
     if behind < len(text) and text[behind] != " ":
         raise TextError(behind)
     return sentence, behind
-
-
-def closing_index(text, inside):
-    """The index of the parenthesis that closes the one directly in front of inside."""
-    missing = 1
-    for at in range(inside, len(text)):
-        if text[at] == "(":
-            missing += 1
-        elif text[at] == ")":
-            missing -= 1
-            if missing == 0:
-                return at
-    raise TextError(len(text))
 
 
 def token_value(token, field):

@@ -133,12 +133,12 @@ def enclosed_fault(text, start):
         return start, None
     closed = [end for end in range(start + 1, len(text) + 1)
               if text[start:end].count("(") == text[start:end].count(")")]
-    if not closed:
-        return len(text), None
-    inner = text[start + 1:closed[0] - 1]
-    if not is_sentence(inner):
-        within = [index for index in range(len(inner)) if not begins_sentence(inner[:index + 1])]
-        return start + 1 + (within + [len(inner)])[0], None
+    inner = text[start + 1:closed[0] - 1] if closed else text[start + 1:]
+    within = [index for index in range(len(inner)) if not begins_sentence(inner[:index + 1])]
+    if within:
+        return start + 1 + within[0], None
+    if not closed or not is_sentence(inner):
+        return start + 1 + len(inner), None
     if text[closed[0]:closed[0] + 1] not in ("", " "):
         return closed[0], None
     return None, closed[0]

@@ -160,11 +160,28 @@ class FaultTest(TextTest):
         self.fails("cut once (a &)) own", 13)
 
     def test_missing_closing_parentheses(self):
-        for text in ["cut once (a", "cut once (a & b", "cut once ((a) & b ", "cut once (a own x own #0",
-                     "cut once ((a) own x own #0", "cut once (a b", "cut once ((a b) own x own #0",
-                     "take cut once (", "cut once (& own x own #0"]:
+        for text in ["cut once (a", "cut once (a & b", "cut once ((a) & b ", "cut once (a & (b)", "cut once (a [2/0",
+                     "cut once (a [2/0] > ", "take cut once (", "cut once ((((a)  "]:
             self.fails(text, len(text))
             self.assertEqual(derivation_fault(text), len(text))
+
+    def test_a_fault_comes_before_a_missing_closing_parenthesis(self):
+        for text, index in [
+            ("cut once (a own x own #0", 12), ("cut once ((a) own x own #0", 14), ("cut once (a b", 12),
+            ("cut once ((a b) own x own #0", 13), ("cut once (& own x own #0", 10), ("cut once (a (b) own x", 12),
+            ("cut once (] own x own #0", 10), ("cut once (a [0/1] > b own x own #0", 13), ("cut once (A", 10),
+            ("cut once ((", 11), ("cut once (()", 11), ("cut once (abcdefghijklm", 22), ("cut once (a > b c", 16),
+            ("take cut [999999999/100] (open & ql > ql  pay #0 once own #0 own ql cite open", 42),
+        ]:
+            self.fails(text, index)
+            self.assertEqual(derivation_fault(text), index)
+
+    def test_what_stands_behind_a_fault_does_not_move_it(self):
+        for text, index in [("cut once (a o", 12), ("cut once (a [2/0] b", 18), ("cut once ((a) (", 14),
+                            ("take cut [1/0] (a & )", 20)]:
+            for behind in ["", " ", ")", " )", ") own x own #0", "own x own #0", " (b)", "))", "(", "&"]:
+                self.fails(text + behind, index)
+                self.assertEqual(derivation_fault(text + behind), index)
 
     def test_directly_behind_the_closing_parenthesis(self):
         for behind in ["own", "x", ")", "(", ",", "#0", "&", "[1/0]"]:

@@ -1,7 +1,7 @@
 """Counting the uses and the days of what a derivation refers to."""
 
 from heldproofs.moving import is_below
-from heldproofs.rows import field_of, premise_levels, premises, refers
+from heldproofs.rows import field_of, placed_heads, premise_count, refers
 
 
 class Count:
@@ -41,19 +41,25 @@ class Count:
 
 def counts(derivation, level=0):
     """A dictionary from the free references of a derivation at this level to their counts."""
-    above = []
-    for premise, inner in zip(premises(derivation), premise_levels(derivation, level)):
-        above.append(counts(premise, inner))
-    if derivation[0] == "offer":
+    made = []
+    for head, here in reversed(placed_heads(derivation, level)):
+        above = [made.pop() for _ in range(premise_count(head[0]))]
+        made.append(row_counts(head, here, above))
+    return made[0]
+
+
+def row_counts(row, level, above):
+    """The counts of a row at this level, from those of its premises in order."""
+    if row[0] == "offer":
         return chosen(above[0], above[1])
     found = {}
     if above:
         # The hold that the row brings is its own affair; other rows bring none at this level.
         found = {ref: above[-1][ref] for ref in above[-1] if ref != level}
-    if refers(derivation) and is_below(derivation[1], level):
-        found = summed(found, {derivation[1]: Count(1, 1, 0)})
-    if derivation[0] in ("pay", "cut"):
-        found = summed(found, packed(above[0], field_of(derivation, "kind")))
+    if refers(row) and is_below(row[1], level):
+        found = summed(found, {row[1]: Count(1, 1, 0)})
+    if row[0] in ("pay", "cut"):
+        found = summed(found, packed(above[0], field_of(row, "kind")))
     return found
 
 

@@ -3,7 +3,7 @@
 from heldproofs.errors import BadKind
 
 
-def is_whole(value, least):
+def is_number_from(value, least):
     """Whether a value of any form is an integer of at least this."""
     return isinstance(value, int) and not isinstance(value, bool) and value >= least
 
@@ -11,7 +11,7 @@ def is_whole(value, least):
 def is_kind(value):
     """Whether a value of any form is a kind."""
     if isinstance(value, tuple):
-        return len(value) == 2 and is_whole(value[0], 1) and is_whole(value[1], 0)
+        return len(value) == 2 and is_number_from(value[0], 1) and is_number_from(value[1], 0)
     return isinstance(value, str) and value == "once"
 
 

@@ -69,6 +69,17 @@ def heads(derivation):
     return found
 
 
+def placed_heads(derivation, level):
+    """The list of the heads of all rows in preorder, each with the level at which its row stands."""
+    found = []
+    waiting = [(derivation, level)]
+    while waiting:
+        row, here = waiting.pop()
+        found.append((row[:1 + len(FIELDS[row[0]])], here))
+        waiting.extend(list(zip(premises(row), premise_levels(row, here)))[::-1])
+    return found
+
+
 def from_heads(found):
     """The derivation that has these heads in preorder."""
     made = []

@@ -22,6 +22,8 @@ BARRED = set("""register mro elements open input law version_info with_traceback
     compile copyright credits delattr dir eval exec exit gc getattr globals hasattr help id importlib license
     locals methodcaller os quit setattr type vars sys attrgetter""".split())
 
+CHANGING = set("append clear extend insert pop remove reverse setdefault update add discard sort".split())
+
 STATEMENTS = (ast.FunctionDef, ast.ClassDef, ast.ImportFrom, ast.Assign, ast.Expr)
 
 
@@ -43,6 +45,13 @@ def bound(node):
     names = {inner.arg for inner in ast.walk(node) if isinstance(inner, ast.arg)}
     return names | {inner.id for inner in ast.walk(node)
                     if isinstance(inner, ast.Name) and isinstance(inner.ctx, ast.Store)}
+
+
+def plain_value(node, above):
+    """Evaluate a literal, or a dictionary from literals to functions that are defined above it."""
+    if isinstance(node, ast.Dict) and all(isinstance(value, ast.Name) and value.id in above for value in node.values):
+        return [ast.literal_eval(key) for key in node.keys]
+    return ast.literal_eval(node)
 
 
 class FormTest(unittest.TestCase):
@@ -76,12 +85,15 @@ class FormTest(unittest.TestCase):
 
     def test_module_level(self):
         for name, tree in self.trees.items():
+            above = set(self.imported(name))
             for node in tree.body:
                 self.assertIsInstance(node, STATEMENTS, (name, node.lineno))
                 if isinstance(node, ast.Expr):
                     self.assertIsInstance(node.value, ast.Constant, (name, node.lineno))
                 if isinstance(node, ast.Assign):
-                    ast.literal_eval(node.value)
+                    plain_value(node.value, above)
+                if isinstance(node, ast.FunctionDef):
+                    above.add(node.name)
             bound_here = list(self.imported(name)) + [node.name for node in tree.body if hasattr(node, "name")]
             bound_here += [node.targets[0].id for node in tree.body if isinstance(node, ast.Assign)]
             self.assertEqual(len(bound_here), len(set(bound_here)), name)
@@ -143,6 +155,26 @@ class FormTest(unittest.TestCase):
             with warnings.catch_warnings():
                 warnings.simplefilter("error")
                 compile(text, name, "exec")
+
+    def test_loops_do_not_change_what_they_go_over(self):
+        for name, tree in self.trees.items():
+            for node in ast.walk(tree):
+                if isinstance(node, ast.For):
+                    over = {ast.unparse(part) for part in ast.walk(node.iter)
+                            if isinstance(part, (ast.Name, ast.Attribute, ast.Subscript))}
+                    for part in ast.walk(ast.Module(node.body, [])):
+                        if isinstance(part, ast.Call) and isinstance(part.func, ast.Attribute):
+                            if part.func.attr in CHANGING:
+                                self.assertNotIn(ast.unparse(part.func.value), over, (name, part.lineno))
+                        if isinstance(part, (ast.Subscript, ast.Attribute)) and not isinstance(part.ctx, ast.Load):
+                            changed = part.value if isinstance(part, ast.Subscript) else part
+                            self.assertNotIn(ast.unparse(changed), over, (name, part.lineno))
+
+    def test_no_generator_expressions_beside_lengths(self):
+        # A class with its own length asks for lists in all, any, sum and the like.
+        for name, tree in self.trees.items():
+            for node in ast.walk(tree):
+                self.assertNotIsInstance(node, ast.GeneratorExp, (name, getattr(node, "lineno", 0)))
 
     def test_no_state_at_module_level(self):
         for name, tree in self.trees.items():

@@ -19,13 +19,31 @@ FUNCTIONS = {
     "rowtext": ["format_derivation(derivation)", "parse_derivation(text)"],
     "moving": ["moved(derivation, old, new, renamed)", "free_refs(derivation, level)"],
     "counts": ["counts(derivation, level=0)"],
+    "checking": ["check(library, claim, derivation)", "accepts(library, claim, derivation)",
+                 "claim_at(library, claim, derivation, path)"],
+    "mending": ["with_room(claim, name, kind)", "pooled_holds(claim, derivation, first, second)",
+                "least_kinds(claim, derivation)", "abstracted(claim, derivation, name)"],
+    "ends": ["ways(library, sentence)", "ends(library, pairs, goal)"],
+    "searching": ["search(library, claim, *, limit=None, order='forward')"],
+    "library": ["unfolded(library, derivation)"],
 }
 
 CLASSES = {
     "counts": {"Count": {"__init__": "(self, least, most, days)", "__add__": "(self, other)",
                          "__or__": "(self, other)", "boxed": "(self, kind)", "fits": "(self, kind)",
                          "triple": "(self)"}},
+    "searching": {"Answer": {}, "Searcher": {
+        "__init__": "(self, library, *, limit=None, order='forward')", "seek": "(self, claim)", "clear": "(self)",
+        "__len__": "(self)", "__contains__": "(self, claim)"}},
+    "library": {"Library": {
+        "__init__": "(self)", "makes_of": "(self, name)", "opens_of": "(self, name)", "entry": "(self, name)",
+        "entry_names": "(self)", "meeting": "(self, name, i, j)", "gaps": "(self)", "twin": "(self)",
+        "define": "(self, name, *, makes=(), opens=(), limit=500)", "undefine": "(self, name)",
+        "keep": "(self, name, sentence, derivation)", "forget": "(self, name)", "__contains__": "(self, name)",
+        "__len__": "(self)", "__iter__": "(self)"}},
 }
+
+PROPERTIES = {"library": {"Library": ["is_whole"]}}
 
 
 class InterfaceTest(unittest.TestCase):
@@ -53,6 +71,13 @@ class InterfaceTest(unittest.TestCase):
                 for method, arguments in methods.items():
                     self.assertIn(method, vars(made))
                     self.assertEqual(str(inspect.signature(vars(made)[method])), arguments)
+
+    def test_properties_stand_in_the_class(self):
+        for file, classes in PROPERTIES.items():
+            module = importlib.import_module("heldproofs." + file)
+            for name, properties in classes.items():
+                for each in properties:
+                    self.assertIsInstance(vars(getattr(module, name))[each], property)
 
 
 if __name__ == "__main__":

@@ -1,7 +1,7 @@
 """Counting the uses and the days of what a derivation refers to."""
 
 from heldproofs.moving import is_below
-from heldproofs.rows import field_of, placed_heads, premise_count, refers
+from heldproofs.rows import field_of, heads, placed_heads, premise_count, refers
 
 
 class Count:
@@ -46,6 +46,28 @@ def counts(derivation, level=0):
         above = [made.pop() for _ in range(premise_count(head[0]))]
         made.append(row_counts(head, here, above))
     return made[0]
+
+
+def count_of(derivation, ref):
+    """The count of one free reference alone, (0, 0, 0) if it does not occur."""
+    made = []
+    for head in reversed(heads(derivation)):
+        above = [made.pop() for _ in range(premise_count(head[0]))]
+        made.append(row_count_of(head, ref, above))
+    return made[0]
+
+
+def row_count_of(row, ref, above):
+    """The count of one reference in a row, from those in its premises in order."""
+    if row[0] == "offer":
+        return above[0] | above[1]
+    found = above[-1] if above else Count(0, 0, 0)
+    if refers(row) and row[1] == ref:
+        found = found + Count(1, 1, 0)
+    # A part without the reference takes no days.
+    if row[0] in ("pay", "cut") and above[0].most > 0:
+        found = found + above[0].boxed(field_of(row, "kind"))
+    return found
 
 
 def row_counts(row, level, above):

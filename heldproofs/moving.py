@@ -25,6 +25,14 @@ def is_below(ref, level):
     return isinstance(ref, str) or ref < level
 
 
+def occurs(derivation, ref):
+    """Whether some row of a derivation has this reference."""
+    for head in heads(derivation):
+        if refers(head) and head[1] == ref:
+            return True
+    return False
+
+
 def free_refs(derivation, level):
     """The list of the different references that lead out of a derivation at this level."""
     found = {}

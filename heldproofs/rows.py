@@ -58,13 +58,18 @@ def premise_levels(row, level):
     return levels
 
 
+def head_of(row):
+    """A row without its premises."""
+    return row[:1 + len(FIELDS[row[0]])]
+
+
 def heads(derivation):
     """The list of the heads of all rows in preorder."""
     found = []
     waiting = [derivation]
     while waiting:
         row = waiting.pop()
-        found.append(row[:1 + len(FIELDS[row[0]])])
+        found.append(head_of(row))
         waiting.extend(premises(row)[::-1])
     return found
 
@@ -75,7 +80,7 @@ def placed_heads(derivation, level):
     waiting = [(derivation, level)]
     while waiting:
         row, here = waiting.pop()
-        found.append((row[:1 + len(FIELDS[row[0]])], here))
+        found.append((head_of(row), here))
         waiting.extend(list(zip(premises(row), premise_levels(row, here)))[::-1])
     return found
 

@@ -2,7 +2,10 @@
 
 import itertools
 
+from heldproofs.moving import moved
 from heldproofs.sentencetext import format_sentence
+
+ROWS = ("own", "take", "offer", "pick", "pay", "make", "open", "cut", "cite")
 
 
 def pair_key(pair):
@@ -215,8 +218,7 @@ def plain_fault(library, claim, derivation):
 def is_settled(row, level=0):
     """Point 57: whether no exchange exists; a row that brings a hold is used by the row on top of it."""
     name = row[0]
-    above = [item for item in row[1:] if isinstance(item, tuple) and item and item[0] in (
-        "own", "take", "offer", "pick", "pay", "make", "open")]
+    above = [item for item in row[1:] if isinstance(item, tuple) and item and item[0] in ROWS]
     if name in ("pick", "pay", "open"):
         top = above[-1]
         refers = top[0] in ("pick", "pay", "open") and top[1] == level
@@ -226,3 +228,136 @@ def is_settled(row, level=0):
     if name in ("take", "pick", "pay", "open"):
         levels[-1] = level + 1
     return all([is_settled(premise, inner) for premise, inner in zip(above, levels)])
+
+
+def is_used(row, ref):
+    """Whether a reference occurs in a derivation; references to levels mean the same everywhere in it."""
+    if row[0] in ("own", "pick", "pay", "open") and row[1] == ref:
+        return True
+    return any([is_used(item, ref) for item in row[1:] if isinstance(item, tuple) and item and item[0] in ROWS])
+
+
+def plain_step(library, row, m, way):
+    """Point 39 for a row at level m: the name of the step and what it makes of the row, or None."""
+    if row[0] == "cite" and way == "unfold" and row[1] in library.entry_names():
+        return "unfold", moved(library.entry(row[1])[1], 0, m, {})
+    if row[0] != "cut":
+        return None
+    _, kind, S, D, B = row
+    D1, D2 = moved(D, m, m + 1, {}), moved(D, m, m + 2, {})
+
+    def swap(T):
+        return moved(T, m + 2, m + 2, {m: m + 1, m + 1: m})
+
+    def sink_body(T):
+        return moved(T, m + 2, m + 1, {m + 1: m})
+
+    def sink(P):
+        return moved(P, m + 1, m, {})
+
+    def K(X, level):
+        return "once" if kind == "once" else plain_counts(X, level)[m][1:]
+
+    if way == "left":
+        if D[0] == "own":
+            return "rename", moved(B, m + 1, m, {m: D[1]})
+        if kind == "once" and D[0] in ("pick", "pay", "open"):
+            return "pass left", D[:-1] + (("cut", "once", S, D[-1], moved(B, m + 1, m + 2, {m: m + 1})),)
+    if way != "right":
+        return None
+    if kind != "once" and not is_used(B, m):
+        return "drop", sink(B)
+    if B == ("own", m):
+        return "land", D
+    R, refers = B[0], B[0] in ("pick", "pay", "open") and B[1] == m
+    if is_used(B, m) and R not in ("own", "cut", "cite") and not refers:
+        T = B[-1]
+        if R in ("take", "pick", "open"):
+            return "pass right", B[:-1] + (("cut", K(T, m + 2), S, D1, swap(T)),)
+        if R == "make":
+            return "pass right", B[:-1] + (("cut", K(T, m + 1), S, D, T),)
+        if R == "offer":
+            return "pass right", ("offer",) + tuple(
+                [("cut", K(P, m + 1), S, D, P) if is_used(P, m) else sink(P) for P in B[1:]])
+        P = B[3]
+        paid = ("cut", K(P, m + 1), S, D, P) if is_used(P, m) else sink(P)
+        return "pass right", B[:3] + (
+            paid, ("cut", K(T, m + 2), S, D1, swap(T)) if is_used(T, m) else sink_body(T))
+    if kind != "once" and refers:
+        T, paid = B[-1], ()
+        if is_used(T, m):
+            T = ("cut", K(T, m + 2), S, D2, moved(T, m + 2, m + 3, {m: m + 2}))
+        if R == "pay":
+            paid = (B[3],)
+            if is_used(B[3], m):
+                paid = (("cut", K(B[3], m + 1), S, D1, moved(B[3], m + 1, m + 2, {m: m + 1})),)
+        head = B[:3] if R != "open" else B[:4]
+        return "peel", ("cut", "once", S, D, head + paid + (T,))
+    if kind == "once" and refers:
+        T = sink_body(B[-1])
+        if D[0] == "take" and R == "pay":
+            return "meet", ("cut", "once", S[3], ("cut", B[2], S[2], sink(B[3]), D[1]), T)
+        if D[0] == "offer" and R == "pick":
+            at = ["left", "right"].index(B[2]) + 1
+            return "meet", ("cut", "once", S[at], D[at], T)
+        if D[0] == "make" and R == "open":
+            (_, w, i, A), j = D, B[3]
+            X = library.meeting(w, i, j)
+            if X is not None:
+                X = moved(X, 0, m + 1, {"from": m})
+                made, opened = library.makes_of(w)[i], library.opens_of(w)[j]
+                return "meet", ("cut", "once", opened, ("cut", "once", made, A, X), T)
+    return None
+
+
+def plain_rank(library, sentence):
+    """Point 43."""
+    if sentence[0] == "word":
+        if sentence[1] not in library:
+            return 1
+        made = [plain_rank(library, make) for make in library.makes_of(sentence[1])]
+        opened = [plain_rank(library, inner) for inner in library.opens_of(sentence[1])]
+        return 1 + max(made + [0]) + max(opened + [0])
+    first, second = plain_rank(library, sentence[-2]), plain_rank(library, sentence[-1])
+    if sentence[0] == "menu":
+        return max(first, second)
+    return (1 if sentence[1] == "once" else sentence[1][0]) * first + second
+
+
+def taller(plays, more):
+    return [(rows + more, load) for rows, load in plays]
+
+
+def pairs_of(first, second):
+    """The plays that are a play of the one and a play of the other."""
+    return [(a + c, b + d) for a, b in first for c, d in second]
+
+
+def plain_plays(library, row):
+    """Points 44 and 45: the rows and the load of each play."""
+    name = row[0]
+    if name == "own":
+        return [(1, 0)]
+    if name in ("take", "make", "pick"):
+        return taller(plain_plays(library, row[-1]), 1)
+    if name == "offer":
+        return taller(plain_plays(library, row[1]) + plain_plays(library, row[2]), 1)
+    if name == "cite":
+        return [(rows + 1, load + 1) for rows, load in plain_plays(library, library.entry(row[1])[1])]
+    found = plain_plays(library, row[-1])
+    if name == "open":
+        for index in range(len(library.makes_of(row[2]))):
+            meeting = library.meeting(row[2], index, row[3])
+            if meeting is not None:
+                found = pairs_of(plain_plays(library, meeting), found)
+        return taller(found, 1)
+    kind = row[2] if name == "pay" else row[1]
+    inner = plain_plays(library, row[3])
+    if kind != "once":
+        inner = taller(inner, 1)
+    for _ in range(1 if kind == "once" else kind[0]):
+        found = pairs_of(inner, found)
+    if name == "pay":
+        return taller(found, 1)
+    factor = (1 if kind == "once" else kind[0]) * plain_rank(library, row[2])
+    return [(rows, load + factor * (rows - 1)) for rows, load in found]

@@ -26,6 +26,13 @@ FUNCTIONS = {
     "ends": ["ways(library, sentence)", "ends(library, pairs, goal)"],
     "searching": ["search(library, claim, *, limit=None, order='forward')"],
     "library": ["unfolded(library, derivation)"],
+    "inverting": ["invert_take(claim, derivation, name)", "invert_offer(claim, derivation, side)",
+                  "expanded(library, claim, derivation)"],
+    "stepping": ["steps(library, derivation)", "step_name(library, derivation, step)",
+                 "do_step(library, derivation, step)"],
+    "running": ["run(library, derivation, choices, *, limit=1000)", "finish(library, derivation)"],
+    "ranks": ["rank(library, sentence)", "loss(sentence)"],
+    "tallies": ["tally(library, derivation)", "greatest_play(library, derivation)"],
 }
 
 CLASSES = {
@@ -41,6 +48,10 @@ CLASSES = {
         "define": "(self, name, *, makes=(), opens=(), limit=500)", "undefine": "(self, name)",
         "keep": "(self, name, sentence, derivation)", "forget": "(self, name)", "__contains__": "(self, name)",
         "__len__": "(self)", "__iter__": "(self)"}},
+    "tallies": {"Tally": {
+        "__init__": "(self, plays, rows, load)", "__add__": "(self, other)", "__mul__": "(self, other)",
+        "copied": "(self, n)", "taller": "(self, k)", "loaded": "(self, k)", "cut": "(self, factor)",
+        "triple": "(self)"}},
 }
 
 PROPERTIES = {"library": {"Library": ["is_whole"]}}

@@ -15,10 +15,9 @@ def ends(library, pairs, goal):
     numbering = Numbering(library)
     cursor = Ends(numbering, numbering.numbered(pairs, goal), False)
     found = []
-    premises = cursor.advance()
-    while premises is not None:
+    while cursor.advance():
+        premises = [cursor.premise(at) for at in range(cursor.many)]
         found.append([numbering.told(claim) for claim, _ in premises])
-        premises = cursor.advance()
     return found
 
 
@@ -37,39 +36,42 @@ class Ends:
         if backward:
             self.choices.reverse()
         self.choice = None
+        self.many = 0
         self.upcoming = 0
         self.rest = []
         self.sharings = None
 
     def advance(self):
-        """Go to the next end; the list of its premises, or None if there is none.
-
-        A premise is a pair of a numbered claim and the list of the places from which its pairs
-        come, -1 for the pair that take brings.
-        """
+        """Go to the next end; False if there is none. Many is the number of its premises."""
         while self.sharings is not None or self.upcoming < len(self.choices):
             if self.sharings is None:
                 self.choice = self.choices[self.upcoming]
                 self.upcoming += 1
+                self.many = 2 if self.choice[0] == "offer" else 1
                 if self.choice[0] != "spend":
-                    return self.kept_premises()
+                    return True
                 self.spend()
             if self.sharings.advance():
-                return self.shared_premises()
+                return True
             self.sharings = None
-        return None
+        return False
 
-    def kept_premises(self):
-        """The premises of a choice that spends no pair."""
+    def premise(self, at):
+        """A premise of the end: a numbered claim and the list of the places from which its pairs come.
+
+        The place is -1 for the pair that take brings.
+        """
         pairs, goal = self.claim
-        items = [(kind, number, at) for at, (kind, number) in enumerate(pairs)]
+        if self.choice[0] == "spend":
+            portion = self.sharings.portion(at)
+            items = [(kind, self.rest[index][1], self.rest[index][2]) for index, kind in portion]
+            return self.numbering.arranged(items, self.choice[3][at][1])
+        items = [(kind, number, place) for place, (kind, number) in enumerate(pairs)]
         parts = self.numbering.parts(goal)
         if self.choice[0] == "take":
-            taken = (self.numbering.sentences[goal][1], parts[0], -1)
-            return [self.numbering.arranged(items + [taken], parts[1])]
-        if self.choice[0] == "make":
-            return [self.numbering.arranged(items, parts[self.choice[1]])]
-        return [self.numbering.arranged(items, part) for part in parts]
+            items.append((self.numbering.sentences[goal][1], parts[0], -1))
+            return self.numbering.arranged(items, parts[1])
+        return self.numbering.arranged(items, parts[self.choice[1] if self.choice[0] == "make" else at])
 
     def spend(self):
         """Take up a choice that spends a pair; its sharings are to be made."""
@@ -84,14 +86,7 @@ class Ends:
         repeated = [at > 0 and pairs[at - 1] == pairs[at] for at in range(len(pairs))]
         kinds = [kind for kind, _ in pairs]
         self.sharings = Sharings(kinds, repeated, [kind for kind, _ in prices], self.backward)
-
-    def shared_premises(self):
-        """The premises of a choice that spends a pair, with the rest shared as it is now."""
-        made = []
-        for (_, goal), portion in zip(self.choice[3], self.sharings.portions()):
-            items = [(kind, self.rest[at][1], self.rest[at][2]) for at, kind in portion]
-            made.append(self.numbering.arranged(items, goal))
-        return made
+        self.many = len(prices)
 
 
 def end_choices(numbering, claim):

@@ -6,7 +6,7 @@ from heldproofs.rows import from_heads
 
 
 class Visit:
-    """A numbered claim that is being settled, and the end of it that is looked at."""
+    """A numbered claim that is being settled, with those premises of the end that is looked at which were needed."""
 
     def __init__(self, claim, cursor):
         self.claim = claim
@@ -34,17 +34,16 @@ class Finder:
         waiting = [] if claim in self.results else [self.visit(claim)]
         while waiting:
             visit = waiting[-1]
-            if visit.premises is None:
-                visit.premises = visit.cursor.advance()
-                if visit.premises is None:
-                    self.results[visit.claim] = (False, None, visit.refuted)
-                    waiting.pop()
-                elif looked == limit:
-                    return looked
-                else:
-                    looked += 1
-            else:
+            if visit.premises is not None:
                 self.go_on(visit, waiting)
+            elif not visit.cursor.advance():
+                self.results[visit.claim] = (False, None, visit.refuted)
+                waiting.pop()
+            elif looked == limit:
+                return looked
+            else:
+                looked += 1
+                visit.premises = []
         return looked
 
     def visit(self, claim):
@@ -53,7 +52,7 @@ class Finder:
 
     def go_on(self, visit, waiting):
         """Go on with the end that a visit looks at: show its claim, give the end up, or settle a premise."""
-        premise = self.first_not_shown(visit.premises)
+        premise = self.first_not_shown(visit)
         if premise is None:
             self.results[visit.claim] = (True, visit.cursor.choice, visit.premises)
             waiting.pop()
@@ -63,9 +62,13 @@ class Finder:
         else:
             waiting.append(self.visit(premise))
 
-    def first_not_shown(self, premises):
-        """The first of the premises that is not known to be shown, or None."""
-        for premise, _ in premises:
+    def first_not_shown(self, visit):
+        """The first premise of the end of a visit that is not known to be shown, or None."""
+        for at in range(visit.cursor.many):
+            # A premise behind one that is refuted is not even made.
+            if at == len(visit.premises):
+                visit.premises.append(visit.cursor.premise(at))
+            premise, _ = visit.premises[at]
             if premise not in self.results or not self.results[premise][0]:
                 return premise
         return None

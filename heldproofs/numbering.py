@@ -45,14 +45,15 @@ class Numbering:
 
         The origins come in the order of the pairs; of equal pairs, in the order of the triples.
         """
-        ordered = sorted(items, key=lambda item: self.place(item[0], item[1]))
+        ordered = sorted(items, key=self.place)
         return (tuple([(kind, number) for kind, number, _ in ordered]), goal), [item[2] for item in ordered]
 
-    def place(self, kind, number):
-        """Where a pair stands among others."""
+    def place(self, item):
+        """Where a triple stands among others by its kind and its number."""
+        kind = item[0]
         if kind == "once":
-            return self.texts[number], 0, 0, 0
-        return self.texts[number], 1, kind[0], kind[1]
+            return self.texts[item[1]], 0, 0, 0
+        return self.texts[item[1]], 1, kind[0], kind[1]
 
     def parts(self, number):
         """The numbers of the parts of a menu or a trade, or of the makes of a word."""

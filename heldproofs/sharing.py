@@ -6,10 +6,10 @@ class Sharings:
 
     The pairs are told by their kinds and by whether each is equal to the one in
     front of it, the prices by their kinds. How a pair is shared is a list of the
-    numbers of uses that go to its takers, but for the last one: that one has the
-    least weight and gets as many as are left, so each such list is full and no
-    list is a dead end. Of sharings that differ only in which of several equal
-    pairs gives what, one is made: their lists come in order.
+    numbers of uses that go to its takers. The last taker has the least weight and
+    gets as many as are left, so each such list is full and no beginning of one is
+    a dead end. Of sharings that differ only in which of several equal pairs gives
+    what, one is made: their lists come in order.
     """
 
     def __init__(self, kinds, repeated, prices, backward):
@@ -18,6 +18,7 @@ class Sharings:
         self.prices = prices
         self.backward = backward
         self.takers = [takers_of(kind, prices) for kind in kinds]
+        self.slots = [{index: slot for slot, (index, _) in enumerate(takers)} for takers in self.takers]
         self.spreads = [[] for _ in kinds]
         self.begun = False
 
@@ -26,17 +27,11 @@ class Sharings:
         if not self.begun:
             self.begun = True
             return self.begin()
-        step = -1 if self.backward else 1
         many = len(self.kinds)
         for at in reversed(range(many)):
-            spread = self.spreads[at]
-            while spread:
-                number = spread.pop() + step
-                low, high = self.bounds(at)
-                if low <= number <= high:
-                    spread.append(number)
-                    self.fill(at)
-                    return True
+            if self.goes_on(self.spreads[at], at):
+                self.fill(at)
+                return True
         return False
 
     def begin(self):
@@ -47,42 +42,50 @@ class Sharings:
         self.fill(0)
         return True
 
+    def goes_on(self, spread, at):
+        """Shorten the list of a pair to the beginning of the next one; False if it was the last one."""
+        step = -1 if self.backward else 1
+        # The number at the end follows from the others.
+        del spread[-1:]
+        while spread:
+            number = spread.pop() + step
+            low, high = self.bounds(at)
+            if low <= number <= high:
+                spread.append(number)
+                return True
+        return False
+
     def fill(self, start):
         """Complete the lists from a pair on with the first numbers that can stand there."""
         many = len(self.kinds)
         for at in range(start, many):
             spread = self.spreads[at]
-            missing = len(self.takers[at]) - 1 - len(spread)
-            for _ in range(missing):
+            missing = len(self.takers[at]) - len(spread)
+            for left in range(missing, 0, -1):
                 low, high = self.bounds(at)
-                spread.append(high if self.backward else low)
+                spread.append(high if self.backward or left == 1 else low)
 
     def bounds(self, at):
         """The least and the greatest number that can come next in the list of a pair."""
         spread = self.spreads[at]
-        high = self.left_of(at) // self.takers[at][len(spread)][1]
+        takers = self.takers[at]
+        left = uses_of(self.kinds[at])
+        for (_, weight), number in zip(takers, spread):
+            left = left - weight * number
+        high = left // takers[len(spread)][1]
         if self.repeated[at] and self.spreads[at - 1][:len(spread)] == spread:
             return self.spreads[at - 1][len(spread)], high
         return 0, high
 
-    def left_of(self, at):
-        """How many uses of a pair the numbers in its list leave."""
-        left = uses_of(self.kinds[at])
-        for (_, weight), number in zip(self.takers[at], self.spreads[at]):
-            left = left - weight * number
-        return left
-
-    def portions(self):
-        """For each price the list of the pairs that it gets a part of, each with the kind of that part."""
-        given = [[] for _ in self.prices]
-        for at, kind in enumerate(self.kinds):
-            takers = self.takers[at]
-            numbers = list(self.spreads[at])
-            if takers:
-                numbers.append(self.left_of(at) // takers[-1][1])
-            for (index, _), number in zip(takers, numbers):
+    def portion(self, index):
+        """The list of the pairs that a price gets a part of, each with the kind of that part."""
+        given = []
+        price = self.prices[index]
+        for at, slots in enumerate(self.slots):
+            if index in slots:
+                number = self.spreads[at][slots[index]]
                 if number > 0:
-                    given[index].append((at, portion_kind(kind, self.prices[index], number)))
+                    given.append((at, portion_kind(self.kinds[at], price, number)))
         return given
 
 

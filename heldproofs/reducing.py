@@ -1,7 +1,8 @@
 """What each kind of step makes of its row.
 
-Each function here gets the row at the path of a step and the level of that row,
-and returns what stands there behind the step. The row is known to have it.
+Each function in the table CHANGES gets the row at the path of a step and the
+level of that row, and returns what stands there behind the step. The row is
+known to have it.
 """
 
 from heldproofs.counts import count_of
@@ -98,3 +99,21 @@ def meet(library, row, level):
 def unfold(library, row, level):
     """The derivation of the entry stands for its citation."""
     return moved(library.entry(row[1])[1], 0, level, {})
+
+
+CHANGES = {
+    "rename": rename,
+    "pass left": pass_left,
+    "drop": drop,
+    "land": land,
+    "pass right": pass_right,
+    "peel": peel,
+    "meet": meet,
+    "unfold": unfold,
+}
+
+
+def changed_row(library, row, level, name):
+    """What stands in place of a row at this level behind its step of this name."""
+    change = CHANGES[name]
+    return change(library, row, level)

@@ -2,21 +2,10 @@
 
 from heldproofs.errors import NoPart, NoStep
 from heldproofs.moving import occurs
-from heldproofs.reducing import drop, land, meet, pass_left, pass_right, peel, rename, unfold
+from heldproofs.reducing import changed_row
 from heldproofs.rows import level_at, part, premise_levels, premises, refers, with_part
 
 WAYS = ("left", "right", "unfold")
-
-CHANGES = {
-    "rename": rename,
-    "pass left": pass_left,
-    "drop": drop,
-    "land": land,
-    "pass right": pass_right,
-    "peel": peel,
-    "meet": meet,
-    "unfold": unfold,
-}
 
 # What has to be at the root of the source if this row at the root of the body uses the cut.
 MEETS = {"pay": "take", "pick": "offer", "open": "make"}
@@ -41,8 +30,7 @@ def step_name(library, derivation, step):
 def do_step(library, derivation, step):
     """The derivation that a step makes of another one."""
     row, level, name = place_of(library, derivation, step)
-    change = CHANGES[name]
-    return with_part(derivation, step[0], change(library, row, level))
+    return with_part(derivation, step[0], changed_row(library, row, level, name))
 
 
 def place_of(library, derivation, step):

@@ -154,6 +154,16 @@ class EndsTest(unittest.TestCase):
         self.assertEqual(len(ends_of("f: a > b > c, x [2/3]: a, y [2/3]: a |- c")), 6)
         self.assertEqual(len(ends_of("f: a > b > c, x: a, y: a |- c")), 3)
 
+    def test_equal_pairs_share_without_repetition(self):
+        for text, count in [("f: a > b > c > d, x [2/3]: a, y [2/3]: a |- d", 21), ("f: a > b > c > d, x: a, y: a |- d", 6),
+                            ("f: a > b > c > d, x [1/3]: a, y [1/3]: a, z [1/3]: a |- d", 10),
+                            ("f: a > b [2/0] > c [3/1] > d, x [5/3]: a, y [5/3]: a, z [4/3]: a |- d", None)]:
+            pairs, goal = bare_claim(parse_claim(text))
+            found = [tuple(end) for end in ends(Library(), pairs, goal)]
+            self.assertEqual(set(found), set(map(tuple, plain_ends(Library(), pairs, goal))))
+            if count is not None:
+                self.assertEqual((len(found), len(set(found))), (count, count))
+
     def test_equal_pairs_may_be_spent_once_each(self):
         self.assertEqual(ends_of("f: a > c, g: a > c |- c"), {claims("f: a > c |- a")})
         self.assertEqual(ends_of("f [2/0]: a > c, g [2/0]: a > c |- c"), {claims("f [2/0]: a > c, g [1/0]: a > c |- a")})

@@ -85,7 +85,7 @@ class FormTest(unittest.TestCase):
 
     def test_module_level(self):
         for name, tree in self.trees.items():
-            above = set(self.imported(name))
+            above = set()
             for node in tree.body:
                 self.assertIsInstance(node, STATEMENTS, (name, node.lineno))
                 if isinstance(node, ast.Expr):

@@ -191,6 +191,16 @@ class DefineTest(LibraryTest):
         library.define("w", makes=stock, opens=stock, limit=None)
         self.assertTrue(library.is_whole)
 
+    def test_the_limit_is_500_if_nothing_is_said(self):
+        # The search looks at one end for the trade and one for each use of its price.
+        for uses, is_settled in [(498, True), (499, True), (500, False)]:
+            library = Library()
+            library.define("w", makes=[C], opens=[("trade", (uses, 0), parse_sentence("a > a"), A)])
+            ((name, i, j, table),) = library.gaps()
+            self.assertEqual((name, i, j, table is not None), ("w", 0, 0, is_settled))
+            answer = search(library, ((("from", "once", C),), library.opens_of("w")[0]))
+            self.assertEqual((answer.outcome, answer.looked), ("refuted", uses + 1))
+
     def test_gaps_in_their_order(self):
         library = Library()
         library.define("w", makes=sentences("a", "b"), opens=sentences("c", "a"))

@@ -280,9 +280,14 @@ class SearcherTest(AnswerTest):
 
     def test_the_order(self):
         for text in ["h0 [1/0]: a > d, h1 [1/0]: b > d, h2 [1/0]: c > d, h3 [1/0]: d |- d"]:
+            looks = []
             for order in ["forward", "backward"]:
-                self.assertEqual(Searcher(Library(), order=order).seek(parse_claim(text)).looked,
-                                 search(Library(), parse_claim(text), order=order).looked)
+                searcher, looked = Searcher(Library(), order=order), search(Library(), parse_claim(text), order=order).looked
+                self.assertEqual(searcher.seek(parse_claim(text)).looked, looked)
+                searcher.clear()
+                self.assertEqual(searcher.seek(parse_claim(text)).looked, looked)
+                looks.append(looked)
+            self.assertNotEqual(*looks)
 
     def test_like_search(self):
         source = random.Random(68)

@@ -5,7 +5,7 @@ without the premises; the heads in preorder determine a derivation, so most
 of what goes over a whole derivation goes over the list of its heads.
 """
 
-from heldproofs.errors import NoPart
+from heldproofs.errors import NoPart, NotBare
 
 FIELDS = {
     "own": ("ref",),
@@ -158,3 +158,10 @@ def is_bare(derivation):
         if head[0] in ("cut", "cite"):
             return False
     return True
+
+
+def require_bare(derivation):
+    """Raise the path of the first cut row or cite row in preorder, if there is one."""
+    for path, name in walk(derivation):
+        if name in ("cut", "cite"):
+            raise NotBare(path)

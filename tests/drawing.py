@@ -4,7 +4,9 @@ from heldproofs.checking import accepts
 from heldproofs.counts import counts
 from heldproofs.library import Library
 from heldproofs.moving import moved
-from heldproofs.rows import part, walk, with_part
+from heldproofs.rows import level_at, part, premises, walk, with_part
+from heldproofs.tallies import greatest_play, tally
+from plainreading import lowered, plain_exchanges
 
 KINDS = ["once", "once", "once", (1, 0), (2, 0), (2, 1), (3, 1)]
 
@@ -243,3 +245,53 @@ def spoilt(random, derivation):
     if random.random() < 0.2:
         row = random.choice([("take", row), ("offer", row, row), row[-1] if isinstance(row[-1], tuple) else row])
     return with_part(derivation, path, row)
+
+
+class BareDrawing(Drawing):
+    """The same without cuts and cites."""
+
+    def part(self, goal, depth):
+        shapes = ["pick", "pay", "pay", "open"] if depth else ["own"]
+        if depth and goal[0] == "trade":
+            shapes += ["take"] * 4
+        if depth and goal[0] == "menu":
+            shapes += ["offer"] * 4
+        if depth and goal[0] == "word" and self.library.makes_of(goal[1]):
+            shapes += ["make"] * 4
+        shape = self.random.choice(shapes)
+        if shape == "own":
+            name = self.new_name()
+            return ("own", name), {name: goal}
+        return self.merged(*getattr(self, shape)(goal, depth - 1))
+
+    def cut(self, goal, depth):
+        return self.pay(goal, depth)
+
+
+def draw_bare(random, depth):
+    """A library, a claim and a bare derivation of it, with its rows in many an order."""
+    while True:
+        library = draw_library(random)
+        goal = draw_sentence(random, 2, "abw")
+        row, held = BareDrawing(random, library).part(goal, depth)
+        claim = (tuple([(name, fitting_kind(random, count), held[name]) for name, count in counts(row).items()]), goal)
+        assert accepts(library, claim, row)
+        if tally(library, row).rows < 500 and greatest_play(library, row) < 100:
+            return library, claim, scrambled(random, row, random.randrange(30))
+
+
+def scrambled(random, derivation, times):
+    """A bare derivation that is alike, with rows moved down and up."""
+    for _ in range(times):
+        places = [(path, index) for path, name in walk(derivation) for index in range(2)
+                  if index < len(premises(part(derivation, path)))
+                  and lowered(part(derivation, path), level_at(derivation, path), index)]
+        ups = plain_exchanges(derivation)
+        if ups and random.random() < 0.2:
+            path, made = random.choice(ups)
+            derivation = with_part(derivation, path, made)
+        elif places:
+            path, index = random.choice(places)
+            made = lowered(part(derivation, path), level_at(derivation, path), index)
+            derivation = with_part(derivation, path, made)
+    return derivation

@@ -33,6 +33,12 @@ FUNCTIONS = {
     "running": ["run(library, derivation, choices, *, limit=1000)", "finish(library, derivation)"],
     "ranks": ["rank(library, sentence)", "loss(sentence)"],
     "tallies": ["tally(library, derivation)", "greatest_play(library, derivation)"],
+    "playing": ["plays(library, derivation)"],
+    "families": ["passing_family(left, right)", "doubling_family(count)", "copying_family(count, uses)"],
+    "readings": ["read_bare(derivation)", "settled_from(reading)", "alike(first, second)"],
+    "exchanging": ["exchange_paths(derivation)", "exchange(derivation, path)", "settling(derivation)",
+                   "settle(derivation)", "chain(first, second)"],
+    "performing": ["perform(library, derivation, things)", "read_back(library, derivation)"],
 }
 
 CLASSES = {

@@ -1,5 +1,6 @@
 """The ways of sentences, and the ends of bare claims."""
 
+from heldproofs.kinds import spent_kind
 from heldproofs.numbering import Numbering
 from heldproofs.routes import prices_on, routes
 from heldproofs.sharing import Sharings
@@ -104,10 +105,3 @@ def end_choices(numbering, claim):
                 found.append((len(prices), ("spend", at, actions, prices)))
     # What has few premises is soon settled.
     return [choice for _, choice in sorted(found, key=lambda item: item[0])]
-
-
-def spent_kind(kind):
-    """What a hold of the kind is after one use; None if nothing is left."""
-    if kind == "once" or kind[0] == 1:
-        return None
-    return kind[0] - 1, kind[1]

@@ -39,3 +39,10 @@ def covers(room, kind):
     if room == "once":
         return False
     return kind[0] <= room[0] and kind[1] <= room[1]
+
+
+def spent_kind(kind):
+    """What a hold of the kind is after one use; None if nothing is left."""
+    if kind == "once" or kind[0] == 1:
+        return None
+    return kind[0] - 1, kind[1]

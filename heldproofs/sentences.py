@@ -60,3 +60,16 @@ def legs(sentence):
         return legs(sentence[1]) + legs(sentence[2])
     first = (sentence[1], sentence[2])
     return [([first] + prices, name) for prices, name in legs(sentence[3])]
+
+
+def is_all_once(sentence):
+    """Whether each kind in a sentence is once."""
+    waiting = [sentence]
+    while waiting:
+        here = waiting.pop()
+        if here[0] != "word":
+            waiting.append(here[-1])
+            waiting.append(here[-2])
+        if here[0] == "trade" and here[1] != "once":
+            return False
+    return True

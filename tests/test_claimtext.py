@@ -9,7 +9,7 @@ from grammar import begins_claim, is_claim
 from helper import error_of, holds_no_list, least_fault, random_kind, random_sentence, scattered
 from heldproofs.claims import make_claim
 from heldproofs.claimtext import format_claim, parse_claim
-from heldproofs.sentences import menu, trade, word
+from heldproofs.sentences import menu, trade
 
 A, B, C = ("word", "a"), ("word", "b"), ("word", "c")
 

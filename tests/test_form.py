@@ -124,7 +124,8 @@ class FormTest(unittest.TestCase):
             taken = set(self.imported(name)) | {node.name for node in tree.body if isinstance(node, ast.ClassDef)}
             for node in functions(tree):
                 self.assertEqual(bound(node) & taken, set(), (name, node.name))
-                self.assertEqual(bound(node) & set(dir(builtins)), set(), (name, node.name))
+                # A doctest that ran before leaves an underscore among the builtins.
+                self.assertEqual(bound(node) & set(dir(builtins)) - {"_"}, set(), (name, node.name))
                 self.assertEqual((bound(node) | {node.name}) & BARRED, set(), (name, node.name))
                 self.assertNotIn(node.name, dir(builtins))
             used = {node.id for node in ast.walk(tree) if isinstance(node, ast.Name)}

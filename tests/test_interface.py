@@ -39,6 +39,11 @@ FUNCTIONS = {
     "exchanging": ["exchange_paths(derivation)", "exchange(derivation, path)", "settling(derivation)",
                    "settle(derivation)", "chain(first, second)"],
     "performing": ["perform(library, derivation, things)", "read_back(library, derivation)"],
+    "refuting": ["refutes(library, table, claim)", "span(sentence, name)", "doubts(claim)"],
+    "worldbuilding": ["build_world(claim, *, limit=40)"],
+    "linking": ["vocabulary(library, sentence)", "is_plain(library, claim)", "links(library, claim, derivation, left)",
+                "join_links(linked, rest)"],
+    "desk": ["replay(library, claim, journal)"],
 }
 
 CLASSES = {
@@ -58,9 +63,20 @@ CLASSES = {
         "__init__": "(self, plays, rows, load)", "__add__": "(self, other)", "__mul__": "(self, other)",
         "copied": "(self, n)", "taller": "(self, k)", "loaded": "(self, k)", "cut": "(self, factor)",
         "triple": "(self)"}},
+    "worlds": {"World": {
+        "__init__": "(self, products, facts)", "__len__": "(self)", "product": "(self, a, b)",
+        "has": "(self, element, sentence)", "fails": "(self, claim, places)"}},
+    "desk": {"Desk": {
+        "__init__": "(self, library, claim)", "numbers": "(self)", "goal": "(self, number)",
+        "own": "(self, number, hold)", "take": "(self, number, new)", "offer": "(self, number)",
+        "pick": "(self, number, hold, side, new)", "pay": "(self, number, hold, new, *, share=())",
+        "make": "(self, number, index)", "unpack": "(self, number, hold, index, new)",
+        "cut": "(self, number, sentence, new, *, kind='once', share=())", "cite": "(self, number, entry)",
+        "fill": "(self, number, derivation)", "seek": "(self, number, *, limit=500)", "undo": "(self)",
+        "redo": "(self)", "journal": "(self)", "built": "(self)", "__len__": "(self)", "__iter__": "(self)"}},
 }
 
-PROPERTIES = {"library": {"Library": ["is_whole"]}}
+PROPERTIES = {"library": {"Library": ["is_whole"]}, "desk": {"Desk": ["is_finished"]}}
 
 
 class InterfaceTest(unittest.TestCase):

@@ -8,7 +8,6 @@ from helper import error_of, holds_no_list
 from heldproofs.checking import accepts
 from heldproofs.claims import hold_of
 from heldproofs.claimtext import parse_claim
-from heldproofs.library import Library
 from heldproofs.mending import abstracted, least_kinds, pooled_holds, with_room
 from heldproofs.rowtext import parse_derivation
 

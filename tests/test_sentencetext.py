@@ -6,7 +6,6 @@ import unittest
 
 from grammar import begins_sentence, is_sentence
 from helper import error_of, holds_no_list, least_fault, random_sentence, scattered
-from heldproofs.errors import TextError
 from heldproofs.sentences import menu, trade, word
 from heldproofs.sentencetext import format_sentence, parse_sentence
 

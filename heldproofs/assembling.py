@@ -35,15 +35,17 @@ def rows_of(record, level, refs):
     if told[0] == "fill":
         return heads(moved(told[2], 0, level, refs))
     head = head_of_tactic(claim, told, refs)
-    inner = refs
-    if told[0] in NEW_AT:
-        inner = {name: refs[name] for name in refs}
-        # A spent hold may have had the same name.
-        inner[told[NEW_AT[told[0]]]] = level
     rows = [head]
     for number, above in zip(numbers, premise_levels(head, level)):
-        rows.append((number, above, inner if above > level else refs))
+        rows.append((number, above, refs if above == level else with_new_ref(refs, told, level)))
     return rows
+
+
+def with_new_ref(refs, told, level):
+    """The levels of holds by their names, with the new hold of a tactic; a spent hold may have had its name."""
+    inner = {name: refs[name] for name in refs}
+    inner[told[NEW_AT[told[0]]]] = level
+    return inner
 
 
 def head_of_tactic(claim, told, refs):

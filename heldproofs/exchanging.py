@@ -63,17 +63,17 @@ def exchanged(row, level):
     if above[0] == "pay" and occurs(above[3], level):
         return above[:3] + (row[:-1] + (above[3],), moved(above[4], level + 2, level + 1, {level + 1: level}))
     body = moved(above[-1], level + 2, level + 2, {level: level + 1, level + 1: level})
-    made = raised(row, level)[:-1] + (body,)
+    made = raised(row, level) + (body,)
     if above[0] == "pay":
         return above[:3] + (moved(above[3], level + 1, level, {}), made)
     return above[:-1] + (made,)
 
 
 def raised(row, level):
-    """A row at this level as it stands one level higher; its body is to be replaced."""
+    """A row at this level as it stands one level higher, without its body."""
     if row[0] == "pay":
-        return row[:3] + (moved(row[3], level, level + 1, {}), row[4])
-    return row
+        return row[:3] + (moved(row[3], level, level + 1, {}),)
+    return row[:-1]
 
 
 def settling(derivation):

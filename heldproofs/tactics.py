@@ -6,7 +6,7 @@ library, the claim of the goal and that tuple.
 """
 
 from heldproofs.checking import check
-from heldproofs.claims import hold_of, with_hold, without_hold
+from heldproofs.claims import hold_of, without_hold
 from heldproofs.errors import BadKind, BadName, LeftOver, NameTaken, NoRoom, WrongGoal, WrongHold
 from heldproofs.kinds import is_kind, spent_kind
 from heldproofs.names import is_name
@@ -30,7 +30,7 @@ def take_goals(library, claim, told):
     if goal[0] != "trade":
         raise WrongGoal()
     require_new(claim, told[2])
-    return [with_hold((holds, goal[3]), told[2], goal[1], goal[2])]
+    return [with_new((holds, goal[3]), told[2], goal[1], goal[2])]
 
 
 def offer_goals(library, claim, told):
@@ -48,7 +48,7 @@ def pick_goals(library, claim, told):
     if sentence[0] != "menu":
         raise WrongHold(hold)
     require_new(claim, new)
-    return [with_hold(spent(claim, hold), new, "once", picked_side(sentence, side))]
+    return [with_new(spent(claim, hold), new, "once", picked_side(sentence, side))]
 
 
 def pay_goals(library, claim, told):
@@ -59,7 +59,7 @@ def pay_goals(library, claim, told):
         raise WrongHold(hold)
     require_new(claim, new)
     given, left = shared(spent(claim, hold), sentence[1], share)
-    return [(given, sentence[2]), with_hold((left, claim[1]), new, "once", sentence[3])]
+    return [(given, sentence[2]), with_new((left, claim[1]), new, "once", sentence[3])]
 
 
 def make_goals(library, claim, told):
@@ -79,7 +79,7 @@ def unpack_goals(library, claim, told):
     if not 0 <= index < len(opens):
         raise WrongHold(hold)
     require_new(claim, new)
-    return [with_hold(spent(claim, hold), new, "once", opens[index])]
+    return [with_new(spent(claim, hold), new, "once", opens[index])]
 
 
 def cut_goals(library, claim, told):
@@ -89,7 +89,7 @@ def cut_goals(library, claim, told):
         raise BadKind(kind)
     require_new(claim, new)
     given, left = shared(claim, kind, share)
-    return [(given, sentence), with_hold((left, claim[1]), new, kind, sentence)]
+    return [(given, sentence), with_new((left, claim[1]), new, kind, sentence)]
 
 
 def cite_goals(library, claim, told):
@@ -134,6 +134,12 @@ def require_new(claim, name):
     for hold in claim[0]:
         if hold[0] == name:
             raise NameTaken(name)
+
+
+def with_new(claim, name, kind, sentence):
+    """The claim with a new hold at the end."""
+    holds, goal = claim
+    return holds + ((name, kind, sentence),), goal
 
 
 def require_no_once(claim):

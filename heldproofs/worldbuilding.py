@@ -31,11 +31,16 @@ class Gathering:
         for at, text in enumerate(collection):
             rest = collection[:at] + collection[at + 1:]
             found.append(rest)
-            for prices, _ in legs(self.sentences[text]):
-                for price in prices_of(prices):
-                    for inner, _ in legs(price):
-                        found.append(tuple(sorted(rest + self.collection(prices_of(inner)))))
+            found.extend([tuple(sorted(rest + other)) for other in self.replacements(text)])
         return found
+
+    def replacements(self, text):
+        """The collections that may stand in place of a sentence: the prices of a leg of one of its prices."""
+        inner = []
+        for prices, _ in legs(self.sentences[text]):
+            for price in prices_of(prices):
+                inner.extend(legs(price))
+        return [self.collection(prices_of(prices)) for prices, _ in inner]
 
     def all_of(self, claim, most):
         """The list of the collections of a claim, the empty one first; None if they are more than so many."""

@@ -634,6 +634,23 @@ class BuiltTest(DeskCase):
         self.assertEqual(self.built(text, *tactics),
                          "pick x right pick y left pick #0 right pay #1 once own #2 own #3")
 
+    def test_a_name_that_another_branch_gives_anew(self):
+        # Within what is paid, z is spent and then stands for another hold; in the body it is the claim's.
+        self.assertEqual(
+            self.built("f: a > b > c, z [2/0]: (a & d) & b |- c",
+                       ("pay", 0, "f", "g", [("z", 1)]), ("pick", 1, "z", "left", "y"), ("pick", 3, "y", "left", "z"),
+                       ("own", 4, "z"), ("pay", 2, "g", "h", [("z", 1)]), ("pick", 5, "z", "right", "g"), ("own", 7, "g"),
+                       ("own", 6, "h")),
+            "pay f once pick z left pick #0 left own #1 pay #0 once pick z right own #1 own #1")
+        # The same with fills, and with a name that stands for two holds in two branches.
+        fill = parse_derivation("pick z right own #0")
+        self.assertEqual(
+            self.built("f: a > b > c, z [2/0]: (a & d) & b |- c",
+                       ("pay", 0, "f", "g", [("z", 1)]), ("pick", 1, "z", "left", "y"), ("pick", 3, "y", "left", "z"),
+                       ("fill", 4, parse_derivation("own z")), ("pay", 2, "g", "y", [("z", 1)]), ("fill", 5, fill),
+                       ("fill", 6, parse_derivation("own y"))),
+            "pay f once pick z left pick #0 left own #1 pay #0 once pick z right own #1 own #1")
+
     def test_a_fill_beside_others(self):
         text = "f: a > a > b, x: a, y: a & c |- b & b"
         fill = parse_derivation("pick y left own #0")

@@ -102,6 +102,13 @@ class ExchangeTest(unittest.TestCase):
             self.assertEqual(settling(derivation), [derivation])
             self.assertEqual(settle(derivation), derivation)
 
+    def test_own_of_another_hold(self):
+        # No derivation of a claim has this, but own is never exchanged.
+        for text in ["pick x left own y", "open x w 0 own x", "pay f once own s own s"]:
+            derivation = parse_derivation(text)
+            self.assertEqual(exchange_paths(derivation), [])
+            self.assertEqual(error_of(exchange, derivation, ()), ("NoStep", {"path": (), "way": "exchange"}))
+
     def test_where_there_is_none_beside_others(self):
         derivation = parse_derivation("pick x left take pick #0 right own #2")
         self.assertEqual(exchange_paths(derivation), [()])

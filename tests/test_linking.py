@@ -86,6 +86,22 @@ class PlainTest(unittest.TestCase):
             self.assertEqual(is_plain(library, parse_claim(text)), expected, text)
             self.assertEqual(plain_is_plain(library, parse_claim(text)), expected, text)
 
+    def test_words_that_occur_many_times(self):
+        # Each word occurs 30 times in the next one; each is looked at once.
+        library = Library()
+        opened = made = A
+        for at in range(8):
+            menu, trade = opened, made
+            for _ in range(29):
+                menu, trade = ("menu", menu, opened), ("trade", "once", made, trade)
+            library.define(f"o{at}", opens=[menu])
+            library.define(f"m{at}", makes=[trade])
+            opened, made = ("word", f"o{at}"), ("word", f"m{at}")
+        self.assertTrue(is_plain(library, ((("x", "once", opened),), made)))
+        self.assertFalse(is_plain(library, ((), ("trade", "once", ("trade", "once", ("menu", A, opened), A), made))))
+        self.assertEqual(vocabulary(library, opened), ["a"] + [f"o{at}" for at in range(8)])
+        self.assertEqual(vocabulary(library, ("menu", made, A)), ["a"] + [f"m{at}" for at in range(8)])
+
     def test_drawn(self):
         source = random.Random(73)
         seen = {True: 0, False: 0}

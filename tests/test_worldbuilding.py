@@ -103,7 +103,10 @@ class BuildTest(unittest.TestCase):
 
     def test_very_many_collections_are_not_all_found(self):
         holds = ", ".join([f"x{at}: w{at}" for at in range(20)])
-        self.assertEqual(error_of(build_world, parse_claim(holds + " |- a")), ("WorldTooLarge", {"limit": 40}))
+        goal = " > ".join([f"v{at}" for at in range(20)])
+        claim = parse_claim(holds + " |- " + goal)
+        self.assertEqual(error_of(build_world, claim), ("WorldTooLarge", {"limit": 40}))
+        self.assertEqual(error_of(build_world, claim, limit=400), ("WorldTooLarge", {"limit": 400}))
 
     def test_not_once(self):
         for text in ["x [1/0]: a |- a", "x: a, y [2/0]: b |- b", "x: a [1/0] > b |- b", "|- a [1/0] > a",

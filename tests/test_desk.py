@@ -4,7 +4,7 @@ import copy
 import random
 import unittest
 
-from drawing import draw_derivation, draw_full_library
+from drawing import draw_claim, draw_derivation, draw_full_library, draw_kind, draw_sentence
 from helper import error_of, holds_no_list
 from heldproofs.checking import accepts, check
 from heldproofs.claimtext import format_claim, parse_claim
@@ -704,6 +704,47 @@ class BuiltTest(DeskCase):
             self.walk_back(desk)
         self.assertEqual(len(done), 10, done)
         self.assertGreater(min(done.values()), 5, done)
+
+    def test_tactics_at_random(self):
+        # Whatever tactics succeed: what they have built shows the claim.
+        source = random.Random(87)
+        finished, refused = 0, {}
+        for _ in range(200):
+            library = draw_full_library(source)
+            claim = draw_claim(source, 4, 2)
+            if source.random() < 0.7:
+                claim, _ = draw_derivation(source, library, source.choice([1, 2, 3]))
+            desk = Desk(library, claim)
+            for _ in range(60):
+                if desk.is_finished:
+                    break
+                try:
+                    self.play(source, desk)
+                except ValueError as error:
+                    refused[type(error).__name__] = True
+            if desk.is_finished:
+                check(library, claim, desk.built())
+                self.assertEqual(view(replay(library, claim, desk.journal())), view(desk))
+                finished += 1
+        self.assertGreater(finished, 100)
+        self.assertGreater(len(refused), 5)
+
+    def play(self, source, desk):
+        """Some tactic with arguments of which many are wrong."""
+        number = source.choice(desk.numbers())
+        names = [hold[0] for hold in desk.goal(number)[0]] + ["none", "n1"]
+        hold, new = source.choice(names), "n" + str(source.randrange(4))
+        share = [(source.choice(names), source.choice([1, 1, 1, 2, 3])) for _ in range(source.choice([0, 1, 1, 2]))]
+        name = source.choice(["own", "take", "offer", "pick", "pay", "make", "unpack", "cut", "cite", "seek", "seek"])
+        if name == "seek":
+            desk.seek(number, limit=50)
+        elif name == "cut" and source.random() < 0.3:
+            desk.cut(number, draw_sentence(source, 1, "abw"), new, kind=draw_kind(source), share=share)
+        elif name != "cut":
+            told = {"own": (hold,), "take": (new,), "offer": (), "pick": (hold, source.choice(["left", "right"]), new),
+                    "pay": (hold, new, share), "make": (source.randrange(3),), "cite": ("e",),
+                    "unpack": (hold, source.randrange(3), new)}[name]
+            self.do(desk, (name, number) + told)
 
     def walk_back(self, desk):
         last, many = view(desk), len(desk.journal())

@@ -12,18 +12,18 @@ class Gathering:
     """The collections of a claim: tuples of the texts of sentences in ascending order."""
 
     def __init__(self):
-        self.sentences = {}
+        self.by_text = {}
 
-    def collection(self, sentences):
+    def gathered(self, sentences):
         """The collection of some sentences."""
         for sentence in sentences:
-            self.sentences[format_sentence(sentence)] = sentence
+            self.by_text[format_sentence(sentence)] = sentence
         return tuple(sorted([format_sentence(sentence) for sentence in sentences]))
 
     def first_ones(self, claim):
         """The collections of all holds of a claim together with the prices of a leg of its goal."""
         held = [sentence for _, _, sentence in claim[0]]
-        return [self.collection(held + prices_of(prices)) for prices, _ in legs(claim[1])]
+        return [self.gathered(held + prices_of(prices)) for prices, _ in legs(claim[1])]
 
     def next_ones(self, collection):
         """The collections that have to be there if this one is."""
@@ -37,10 +37,10 @@ class Gathering:
     def replacements(self, text):
         """The collections that may stand in place of a sentence: the prices of a leg of one of its prices."""
         inner = []
-        for prices, _ in legs(self.sentences[text]):
+        for prices, _ in legs(self.by_text[text]):
             for price in prices_of(prices):
                 inner.extend(legs(price))
-        return [self.collection(prices_of(prices)) for prices, _ in inner]
+        return [self.gathered(prices_of(prices)) for prices, _ in inner]
 
     def all_of(self, claim, most):
         """The list of the collections of a claim, the empty one first; None if they are more than so many."""
@@ -92,7 +92,7 @@ def places_of(searcher, gathering, collections, name):
     """The numbers of the collections that give a word, if they are held once each."""
     found = []
     for number, collection in enumerate(collections):
-        holds = [(f"h{at}", "once", gathering.sentences[text]) for at, text in enumerate(collection)]
+        holds = [(f"h{at}", "once", gathering.by_text[text]) for at, text in enumerate(collection)]
         if searcher.seek((tuple(holds), ("word", name))).outcome == "shown":
             found.append(number)
     return found

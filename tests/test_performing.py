@@ -4,7 +4,7 @@ import copy
 import random
 import unittest
 
-from drawing import draw_bare, draw_derivation, draw_full_library
+from drawing import draw_bare, draw_derivation, draw_full_library, draw_library
 from helper import error_of, holds_no_list
 from heldproofs.checking import accepts
 from heldproofs.claimtext import parse_claim
@@ -334,6 +334,35 @@ class ReadBackTest(unittest.TestCase):
         ]:
             self.assertEqual(error_of(read_back, self.library, parse_derivation(text)),
                              ("NoMeeting", {"name": "w", "make_index": make, "open_index": 1}))
+
+    def test_values_that_are_not_needed(self):
+        # Runs drop these cuts, or the side of an offer with one; no meeting is missed then.
+        stuck = "cut once (w) make w 0 own s open #{0} w 1 own #{1}"
+        for text, bare in [
+            ("cut [1/0] (c) " + stuck.format(0, 1) + " own y", "own y"),
+            ("cut once (b & c) offer own y " + stuck.format(0, 1) + " pick #0 left own #1", "own y"),
+            ("cut once (c [1/0] > a) take own y pay #0 [1/0] " + stuck.format(1, 2) + " own #1", "own y"),
+            ("take cut [2/0] (c) " + stuck.format(1, 2) + " own #0", "take own #0"),
+        ]:
+            derivation = parse_derivation(text)
+            self.assertEqual(read_back(self.library, derivation), read_bare(parse_derivation(bare)), text)
+            self.assertEqual(read_back(self.library, derivation), read_bare(finish(self.library, derivation)), text)
+
+    def test_drawn_with_gaps(self):
+        source = random.Random(63)
+        seen = {True: 0, False: 0}
+        while min(seen.values()) < 25:
+            library = draw_library(source, limit=0)
+            claim, derivation = draw_derivation(source, library, source.choice([4, 5]))
+            first = tally(library, derivation)
+            if library.is_whole or first.load > 300 or first.rows > 500 or "'open'" not in str(derivation):
+                continue
+            ended = finish(library, derivation)
+            seen[is_bare(ended)] += 1
+            if is_bare(ended):
+                self.assertEqual(read_back(library, derivation), read_bare(ended))
+            else:
+                self.assertEqual(error_of(read_back, library, derivation)[0], "NoMeeting")
 
     def test_drawn(self):
         source = random.Random(61)
